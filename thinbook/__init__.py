@@ -1,0 +1,1 @@
+"""Thinbook: a book of readings that ages, and tells just what it still knows."""
