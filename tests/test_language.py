@@ -165,6 +165,17 @@ class Names(unittest.TestCase):
         methods, values = methods_and_values()
         self.assertEqual((own_names() - methods) & set(dir(builtins)), set())
 
+    def test_no_parameter_or_local_is_called_like_a_name_of_the_file_s_top(self):
+        for path, tree in trees():
+            top = {node.name for node in tree.body if isinstance(node, (ast.FunctionDef, ast.ClassDef))}
+            top.update(alias.asname or alias.name for row in tree.body if isinstance(row, ast.ImportFrom)
+                       for alias in row.names)
+            for node in ast.walk(tree):
+                if isinstance(node, ast.arg):
+                    self.assertNotIn(node.arg, top, path.name)
+                if isinstance(node, ast.Name) and isinstance(node.ctx, ast.Store):
+                    self.assertNotIn(node.id, top, path.name)
+
     def test_attributes_are_own_ones_or_allowed_ones(self):
         methods, values = methods_and_values()
         for where, node in walked():

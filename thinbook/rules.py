@@ -71,3 +71,12 @@ class Rule:
         # Gone ends the last step's cells as a next step of the same width would.
         ends = self.kept_steps[1:] + [(self.gone_age, self.kept_steps[-1][1])]
         return sum([most_cells(step, behind) for step, behind in zip(self.kept_steps, ends)])
+
+
+def widths_of(rule):
+    return [width for age, width in rule.steps()]
+
+
+def same_rules(one, other):
+    """Whether two rules tell the same steps and gone."""
+    return one.steps() == other.steps() and one.gone() == other.gone()
