@@ -182,6 +182,32 @@ class Names(unittest.TestCase):
             if isinstance(node, ast.Attribute):
                 self.assertIn(node.attr, methods | values | set(METHODS) | {"__init__"}, where)
 
+    def test_classes_are_called_and_not_handed_on(self):
+        own = {node.name for where, node in walked() if isinstance(node, ast.ClassDef)}
+        taken = set()
+        for where, node in walked():
+            if isinstance(node, ast.Call):
+                # Also a base's own way to make an object, as in BookError.__init__(self, ..).
+                taken.add(node.func)
+                taken.add(getattr(node.func, "value", None))
+                if getattr(node.func, "id", None) == "isinstance":
+                    taken.update(ast.walk(node.args[1]))
+            elif isinstance(node, ast.ClassDef):
+                taken.update(node.bases)
+            elif isinstance(node, ast.ExceptHandler):
+                taken.update(ast.walk(node.type))
+            if isinstance(node, ast.Name) and node.id in own:
+                self.assertTrue(node in taken, where)
+
+    def test_methods_are_called_where_they_stand(self):
+        methods, values = methods_and_values()
+        taken = set()
+        for where, node in walked():
+            if isinstance(node, ast.Call):
+                taken.add(node.func)
+            if isinstance(node, ast.Attribute) and node.attr not in values:
+                self.assertTrue(node in taken, where)
+
     def test_no_name_is_a_method_and_a_value(self):
         methods, values = methods_and_values()
         self.assertEqual(methods & values, set())

@@ -9,7 +9,8 @@ from thinbook.sieves import is_mark, is_name, sieve
 LETTERS = "abcdefghijklmnopqrstuvwxyz"
 NO_TEXTS = [None, True, False, 0, 1, -1, [], ["hot"], ("hot",), (), {}, {"hot": True}, b"hot", {"hot"}, object(), str]
 # One sign that is no small letter, ahead of, within and behind letters.
-NO_LETTERS = ["A", "Z", "1", "0", "-", "_", " ", "\n", "\t", ".", "`", "{", "\u00e9", "\u00df", "\u0430", "\uff41", "\0"]
+NO_LETTERS = ["A", "Z", "1", "0", "-", "_", " ", "\n", "\t", ".", "`", "{", "\u00e9", "\u00df", "\u0430", "\uff41",
+              "\0"]
 
 
 def wrong_signs():
@@ -86,7 +87,8 @@ class Sieves(unittest.TestCase):
         self.check_lets("-hot -hot", [["hot"], []], [False, True])
 
     def test_the_longest_marks(self):
-        self.check_lets("abcdefgh -zzzzzzzz", [["abcdefgh"], ["abcdefgh", "zzzzzzzz"], ["abcdefg"]], [True, False, False])
+        lists = [["abcdefgh"], ["abcdefgh", "zzzzzzzz"], ["abcdefg"]]
+        self.check_lets("abcdefgh -zzzzzzzz", lists, [True, False, False])
 
     def test_more_words_than_a_name_has_marks(self):
         words = list(LETTERS)
@@ -117,8 +119,8 @@ class Sieves(unittest.TestCase):
             self.check_refused(text)
 
     def test_minus(self):
-        for text in ["-", "--", "--hot", "---hot", "hot -", "- -", "hot-", "hot-cold", "-hot-", "-hot-cold", "hot --cold",
-                     "hot - cold", "+hot", "\u2212hot", "-hot,-cold"]:
+        for text in ["-", "--", "--hot", "---hot", "hot -", "- -", "hot-", "hot-cold", "-hot-", "-hot-cold",
+                     "hot --cold", "hot - cold", "+hot", "\u2212hot", "-hot,-cold"]:
             self.check_refused(text)
 
     def test_what_is_no_mark(self):
