@@ -148,6 +148,39 @@ class Forms(unittest.TestCase):
                 self.assertTrue([side for side in sides if side.value in (None, True, False)], where)
 
 
+    def test_sets_are_neither_kept_nor_walked(self):
+        for path, tree in trees():
+            held = set()
+            for node in ast.walk(tree):
+                if isinstance(node, ast.Call) and getattr(node.func, "id", None) in ("sorted", "len"):
+                    held.update(node.args)
+                if isinstance(node, ast.Compare):
+                    held.update([node.left] + node.comparators)
+            for node in ast.walk(tree):
+                if isinstance(node, ast.Call) and getattr(node.func, "id", None) in ("set", "frozenset"):
+                    self.assertTrue(node in held, (path.name, node.lineno))
+
+    def test_lists_and_dicts_of_a_file_s_top_are_only_read(self):
+        for path, tree in trees():
+            top = {row.targets[0].id for row in tree.body
+                   if isinstance(row, ast.Assign) and isinstance(row.value, (ast.List, ast.Dict))}
+            read = set()
+            for node in ast.walk(tree):
+                if isinstance(node, ast.Subscript) and isinstance(node.ctx, ast.Load):
+                    read.add(node.value)
+                if isinstance(node, ast.Compare):
+                    read.update(node.comparators)
+            for node in ast.walk(tree):
+                if isinstance(node, ast.Name) and isinstance(node.ctx, ast.Load) and node.id in top:
+                    self.assertTrue(node in read, (path.name, node.lineno))
+
+    def test_errors_of_python_s_own_are_not_taken(self):
+        for where, node in walked():
+            if isinstance(node, ast.ExceptHandler):
+                names = [part.id for part in ast.walk(node.type) if isinstance(part, ast.Name)]
+                self.assertEqual(set(names) & set(dir(builtins)), set(), where)
+
+
 class Names(unittest.TestCase):
     def test_names_are_plain(self):
         for name in own_names():
