@@ -156,10 +156,12 @@ class TextCase(unittest.TestCase):
         self.assertEqual(caught.exception.line, line, thing)
 
     def check_row(self, place, row, line=None):
-        """The text with this row in that place is refused with that line, or that of the place."""
-        text = "\n".join(ROWS[:place] + [row] + ROWS[place + 1:])
+        """The text with this row in that place, and where it is the bad one also as the last row, is refused."""
+        ahead, later = ROWS[:place] + [row], ROWS[place + 1:]
         with self.subTest(row=row):
-            self.check_refused(place if line is None else line, read_book, text)
+            self.check_refused(place if line is None else line, read_book, "\n".join(ahead + later))
+            if line is None:
+                self.check_refused(place, read_book, "\n".join(ahead))
 
     def check_read(self, text):
         """The text is read to a book that is written so again."""
